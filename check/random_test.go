@@ -4,121 +4,40 @@ import (
 	"math/rand"
 	"slices"
 	"strconv"
-	"strings"
 	"testing"
 
 	"horarium/api"
 	"horarium/check"
 	"horarium/clock"
 	"horarium/lex"
+	"horarium/sample"
 )
 
-// maker makes texts of programs at random whose flows' clocks are settled ahead.
-type maker struct {
-	r      *rand.Rand
-	inputs []api.Clock // of i0, i1, ..
-	flows  []api.Clock // of f0, f1, ..
-	ranks  []int       // of flows: most hang on such of lower ranks alone
-	at     int         // the flow that is made
-}
-
-// clock is one of a few clocks, so that some come together.
-func (m *maker) clock() api.Clock {
-	periods := []int64{4, 6, 10, 120}
-	return api.Clock{Period: periods[m.r.Intn(len(periods))], Phase: int64(m.r.Intn(3)) * 2}
-}
-
-// named is a name of what has the clock: of a flow or an input that is there, else of an input that is put in.
-func (m *maker) named(c api.Clock) string {
-	var l []string
-	for i := range m.flows {
-		if m.flows[i] == c && (m.ranks[i] < m.ranks[m.at] || m.r.Intn(20) == 0) {
-			l = append(l, "f"+strconv.Itoa(i))
-		}
-	}
-	at := slices.Index(m.inputs, c)
-	if at < 0 && (len(l) == 0 || m.r.Intn(8) == 0) {
-		at = len(m.inputs)
-		m.inputs = append(m.inputs, c)
-	}
-	if at >= 0 {
-		l = append(l, "i"+strconv.Itoa(at))
-	}
-	return l[m.r.Intn(len(l))]
-}
-
-// expr is an expression of the clock, in brackets where it may need them.
-func (m *maker) expr(c api.Clock, deep int) string {
-	n := int64(1 + m.r.Intn(3))
-	number := strconv.FormatInt(n, 10)
-	switch choice := m.r.Intn(12); {
-	case deep == 0:
-		return m.named(c)
-	case choice == 0:
-		return "(-" + number + " fby " + m.expr(c, deep-1) + ")"
-	case choice == 1 && c.Phase >= c.Period:
-		return "(tail " + m.expr(api.Clock{Period: c.Period, Phase: c.Phase - c.Period}, deep-1) + ")"
-	case choice == 2 && c.Phase+c.Period <= api.MaxTicks:
-		return "(" + number + " :: " + m.expr(api.Clock{Period: c.Period, Phase: c.Phase + c.Period}, deep-1) + ")"
-	case choice == 3 && c.Period*n <= api.MaxTicks:
-		return m.expr(api.Clock{Period: c.Period * n, Phase: c.Phase}, deep-1) + " *^ " + number
-	case choice == 4 && c.Period%n == 0:
-		return m.expr(api.Clock{Period: c.Period / n, Phase: c.Phase}, deep-1) + " /^ " + number
-	case choice == 5 && c.Phase*2 >= c.Period*n && c.Period*n%2 == 0:
-		return m.expr(api.Clock{Period: c.Period, Phase: c.Phase - c.Period*n/2}, deep-1) + " ~> " + number + "/2"
-	case choice < 9:
-		return m.named(c)
-	}
-	args := make([]string, n)
-	for i := range args {
-		args[i] = m.expr(c, deep-1)
-	}
-	return "n" + number + "(" + strings.Join(args, ", ") + ")"
-}
-
-// text is a program whose flows have these clocks, or hang on themselves.
-func (m *maker) text() string {
-	m.inputs, m.flows = nil, nil
-	for range 1 + m.r.Intn(6) {
-		m.flows = append(m.flows, m.clock())
-	}
-	var lines []string
-	m.ranks = m.r.Perm(len(m.flows))
-	for i, params := range []string{"a", "a, b", "a, b, c"} {
-		lines = append(lines, "node n"+strconv.Itoa(i+1)+"("+params+") budget 1 { a * -"+params[len(params)-1:]+" ? a : 7 }")
-	}
-	for i, c := range m.flows {
-		m.at = i
-		lines = append(lines, "flow f"+strconv.Itoa(i)+" = "+m.expr(c, m.r.Intn(4))+";")
-	}
-	for i, c := range m.inputs {
-		lines = append(lines, "input i"+strconv.Itoa(i)+" period "+strconv.FormatInt(c.Period, 10)+" phase "+strconv.FormatInt(c.Phase, 10)+";")
-	}
-	for i := range m.r.Intn(3) {
-		lines = append(lines, "output o"+strconv.Itoa(i)+" = f"+strconv.Itoa(m.r.Intn(len(m.flows)))+" deadline 5;")
-	}
-	return strings.Join(lines, "\n")
+// makerOf makes texts of programs at random, by a seed.
+func makerOf(seed int64) (*sample.Maker, *rand.Rand) {
+	r := rand.New(rand.NewSource(seed))
+	return &sample.Maker{Pick: r.Intn, Periods: []int64{4, 6, 10, 120}, Many: 6, Deep: 3, Budget: 1, Deadline: 5}, r
 }
 
 // changed is the text with a name changed for another one of it, a number, or what a sign does.
-func (m *maker) changed(s string) string {
+func changed(r *rand.Rand, s string) string {
 	tokens, _, _ := lex.Lex(s)
-	out := tokens[m.r.Intn(len(tokens))]
-	in := tokens[m.r.Intn(len(tokens))].Text
+	out := tokens[r.Intn(len(tokens))]
+	in := tokens[r.Intn(len(tokens))].Text
 	numbers := []string{"1", "3", "50", "100"}
 	switch {
 	case out.N > 0:
-		in = numbers[m.r.Intn(len(numbers))]
+		in = numbers[r.Intn(len(numbers))]
 	case out.Text == "*^":
 		in = "/^"
 	case out.Text == "/^":
 		in = "*^"
 	case out.Text == "fby":
 		in = "::"
-	case out.Text[0] == 'n' && m.r.Intn(2) == 0:
-		in = "n" + strconv.Itoa(1+m.r.Intn(3))
+	case out.Text[0] == 'n' && r.Intn(2) == 0:
+		in = "n" + strconv.Itoa(1+r.Intn(3))
 	case slices.Contains(lex.Words(), out.Text) || out.Text[0] < 'a' || in[0] < 'a':
-		return m.changed(s)
+		return changed(r, s)
 	}
 	return s[:out.At] + in + s[out.At+len(out.Text):]
 }
@@ -279,18 +198,18 @@ func asMeant(t *testing.T, s string, p api.Program) fault {
 
 // P6.2, P6.3: clocks that were settled ahead are found, and all expressions' fit; what hangs on itself alone has none.
 func TestSettledClocksAreFound(t *testing.T) {
-	m := maker{r: rand.New(rand.NewSource(6))}
+	m, _ := makerOf(6)
 	many := map[api.Errno]int{}
 	for range 10000 {
-		s := m.text()
+		s := m.Text()
 		p := read(t, s)
 		l, at, err := check.Check(p)
 		many[err]++
 		if want := asMeant(t, s, p); want.err == api.ErrCycle {
 			continue
 		}
-		if !slices.Equal(l, m.flows) || at != 0 || err != api.OK {
-			t.Fatalf("%s\n%v at %d, %v; should be %v", s, l, at, err, m.flows)
+		if !slices.Equal(l, m.Flows) || at != 0 || err != api.OK {
+			t.Fatalf("%s\n%v at %d, %v; should be %v", s, l, at, err, m.Flows)
 		}
 		fitting(t, s, p, l)
 	}
@@ -322,17 +241,17 @@ func fitting(t *testing.T, s string, p api.Program, l []api.Clock) {
 
 // P6.2: what is found doesn't hang on the order of flows.
 func TestFoundInAnyOrder(t *testing.T) {
-	m := maker{r: rand.New(rand.NewSource(66))}
+	m, r := makerOf(66)
 	for range 2000 {
-		s := m.text()
+		s := m.Text()
 		p := read(t, s)
 		if _, _, err := check.Check(p); err != api.OK {
 			continue
 		}
-		order := m.r.Perm(len(p.Flows))
+		order := r.Perm(len(p.Flows))
 		flows, want := make([]api.Flow, len(order)), make([]api.Clock, len(order))
 		for i, from := range order {
-			flows[i], want[i] = p.Flows[from], m.flows[from]
+			flows[i], want[i] = p.Flows[from], m.Flows[from]
 		}
 		p.Flows = flows
 		if l, at, err := check.Check(p); !slices.Equal(l, want) || at != 0 || err != api.OK {
@@ -343,12 +262,12 @@ func TestFoundInAnyOrder(t *testing.T) {
 
 // P6.1, P6.2: programs in which a few tokens were changed have the errors that the chapter says, where it says.
 func TestChangedPrograms(t *testing.T) {
-	m := maker{r: rand.New(rand.NewSource(666))}
+	m, r := makerOf(666)
 	many := map[api.Errno]int{}
 	for range 30000 {
-		s := m.text()
-		for range 1 + m.r.Intn(4) {
-			s = m.changed(s)
+		s := m.Text()
+		for range 1 + r.Intn(4) {
+			s = changed(r, s)
 		}
 		if p, ok := readable(s); ok {
 			many[asMeant(t, s, p).err]++
