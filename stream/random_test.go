@@ -306,63 +306,14 @@ func TestProgramsAtRandom(t *testing.T) {
 	}
 }
 
-// someOps are operators that make the clock of the source's; false, if none were found.
-func someOps(r *rand.Rand, source, c api.Clock) ([]api.Op, bool) {
-	for range 100 {
-		l := make([]api.Op, r.Intn(6))
-		for i := range l {
-			l[i] = op(api.EOver+r.Intn(api.ECons-api.EOver+1), int64(1+r.Intn(3)), int64(1+r.Intn(2)))
-			if l[i].Kind == api.EShift {
-				l[i].N = int64(r.Intn(3))
-			}
-		}
-		if made, err := clock.All(source, l); err == api.OK && made == c {
-			return l, true
-		}
-	}
-	return nil, false
-}
-
-// someArg is an argument that has the clock, of some source; else of an input that has it, and stands first.
-func someArg(r *rand.Rand, f api.Flat, c api.Clock) api.Arg {
-	src := r.Intn(len(f.Inputs) + len(f.Tasks))
-	source, _ := flat.Source(f, src)
-	if l, found := someOps(r, source, c); found {
-		return api.Arg{Src: src, Ops: l}
-	}
-	return api.Arg{Src: slices.Index(f.Inputs, c)}
-}
-
-// someFlat is a flat program that is right, whose tasks read each other and themselves.
-func someFlat(r *rand.Rand) api.Flat {
-	f := api.Flat{
-		Inputs: []api.Clock{every(2, 0), every(2, 4), every(4, 0), every(4, 6), every(6, 0), every(6, 8), every(12, 3)},
-		Tasks:  make([]api.Task, 1+r.Intn(5)),
-		Tells:  make([]api.Tell, r.Intn(4)),
-	}
-	p, _, _ := syntax.Parse("node m(a) budget 1 { a * 3 - 1 } node n(a, b) budget 1 { a - b * 2 } node k(a, b, c) budget 1 { a ? b + 1 : c }")
-	f.Nodes = p.Nodes
-	for i := range f.Tasks {
-		f.Tasks[i] = api.Task{Node: r.Intn(3), Clock: f.Inputs[r.Intn(len(f.Inputs))]}
-	}
-	for i := range f.Tasks {
-		for range f.Nodes[f.Tasks[i].Node].Params {
-			f.Tasks[i].Args = append(f.Tasks[i].Args, someArg(r, f, f.Tasks[i].Clock))
-		}
-	}
-	for i := range f.Tells {
-		c := f.Inputs[r.Intn(len(f.Inputs))]
-		f.Tells[i] = api.Tell{Clock: c, Arg: someArg(r, f, c), Deadline: 1 + r.Int63n(30)}
-	}
-	return f
-}
-
 // P10.1, P10.2: of flat programs that none need have written.
 func TestFlatsAtRandom(t *testing.T) {
 	r := rand.New(rand.NewSource(101))
+	clocks := []api.Clock{every(2, 0), every(2, 4), every(4, 0), every(4, 6), every(6, 0), every(6, 8), every(12, 3)}
+	m := sample.Flats{Pick: r.Intn, Clocks: clocks, Tasks: 5, Tells: 3, Budget: 5, Deadline: 30}
 	many := map[api.Errno]int{}
 	for range 4000 {
-		many[askAll(t, r, someFlat(r))]++
+		many[askAll(t, r, m.Flat())]++
 	}
 	if many[api.OK] < 2000 || many[api.ErrCycle] < 200 || many[api.ErrArg] > 0 {
 		t.Error(many)
