@@ -6,13 +6,10 @@ import (
 	"testing"
 
 	"horarium/api"
-	"horarium/check"
 	"horarium/deadline"
-	"horarium/flat"
 	"horarium/order"
 	"horarium/sample"
 	"horarium/sched"
-	"horarium/syntax"
 )
 
 // outcome is how the making of a plan ends.
@@ -174,27 +171,13 @@ func ask(t *testing.T, r *rand.Rand, f api.Flat) outcome {
 	return how
 }
 
-// flatOf is the text's flat program, if there is one.
-func flatOf(s string) (api.Flat, bool) {
-	p, _, err := syntax.Parse(s)
-	if err != api.OK {
-		return api.Flat{}, false
-	}
-	clocks, _, err := check.Check(p)
-	if err != api.OK {
-		return api.Flat{}, false
-	}
-	f, _, err := flat.Make(p, clocks)
-	return f, err == api.OK
-}
-
 // P12.1: of programs as they are written.
 func TestProgramsAtRandom(t *testing.T) {
 	r := rand.New(rand.NewSource(12))
 	many := map[outcome]int{}
 	for i := range 4000 {
 		m := sample.Maker{Pick: r.Intn, Periods: []int64{4, 6, 8, 12}, Many: 1 + i%8, Deep: 1 + i%4, Budget: 1 + i%3, Deadline: 30}
-		if f, is := flatOf(m.Text()); is {
+		if f, is := sample.Made(m.Text()); is {
 			many[ask(t, r, f)]++
 		}
 	}
@@ -227,7 +210,7 @@ func TestRowsAtRandom(t *testing.T) {
 			clocks = append(clocks, every([]int64{2, 4, 6, 12}[r.Intn(4)], r.Int63n(12)))
 			budgets[i] = 1 + r.Int63n(clocks[i].Period)/2
 		}
-		many[ask(t, r, row(budgets, clocks...))]++
+		many[ask(t, r, sample.Row(budgets, clocks...))]++
 	}
 	if many[planned] < 1000 || many[late] < 1000 || many[strays] < 50 {
 		t.Error(many)

@@ -9,6 +9,7 @@ import (
 	"horarium/api"
 	"horarium/check"
 	"horarium/flat"
+	"horarium/sample"
 	"horarium/sched"
 	"horarium/syntax"
 )
@@ -42,16 +43,6 @@ func made(t *testing.T, s string) api.Flat {
 	f, at, err := flat.Make(p, l)
 	if err != api.OK {
 		t.Fatalf("%q: at %d, %v", s, at, err)
-	}
-	return f
-}
-
-// row is tasks of the budgets, each of an input of its own, by the clocks.
-func row(budgets []int64, clocks ...api.Clock) api.Flat {
-	f := api.Flat{Inputs: clocks}
-	for i, c := range clocks {
-		f.Nodes = append(f.Nodes, api.Node{Params: []string{"a"}, Budget: budgets[i]})
-		f.Tasks = append(f.Tasks, api.Task{Node: i, Clock: c, Args: []api.Arg{{Src: i}}})
 	}
 	return f
 }
@@ -122,7 +113,7 @@ func TestPlans(t *testing.T) {
 	// One behind the other, without a gap.
 	planIs(t, "flow a = m(x); flow b = n(x); flow c = m(x); flow d = n(x);", 0, 10, slot(0, 0, 0), slot(1, 0, 3), slot(2, 0, 5), slot(3, 0, 8))
 	// The next release is waited for, also the first one.
-	planOf(t, "gaps", row([]int64{2, 1}, every(20, 3), every(20, 9)), 9, 20, slot(0, 0, 3), slot(1, 0, 9), slot(0, 1, 23))
+	planOf(t, "gaps", sample.Row([]int64{2, 1}, every(20, 3), every(20, 9)), 9, 20, slot(0, 0, 3), slot(1, 0, 9), slot(0, 1, 23))
 }
 
 // P12.1: whose deadline is least runs first, wherever it stands in the list.
@@ -131,14 +122,14 @@ func TestLeastDeadline(t *testing.T) {
 	planIs(t, "flow f = n(z); flow g = m(x);", 0, 10, slot(0, 0, 0), slot(1, 0, 2), slot(0, 1, 5))
 	planIs(t, "flow a = m(x); flow b = n(x); output o = b deadline 2;", 2, 10, slot(1, 0, 0), slot(0, 0, 2), slot(1, 1, 10))
 	// Of what was released earlier, and what is released just now.
-	planOf(t, "just now", row([]int64{3, 4, 2}, every(10, 0), every(20, 0), every(20, 3)), 3, 20,
+	planOf(t, "just now", sample.Row([]int64{3, 4, 2}, every(10, 0), every(20, 0), every(20, 3)), 3, 20,
 		slot(0, 0, 0), slot(1, 0, 3), slot(2, 0, 7), slot(0, 1, 10), slot(0, 2, 20))
-	f := row([]int64{3, 4, 2}, every(10, 0), every(20, 0), every(20, 3))
+	f := sample.Row([]int64{3, 4, 2}, every(10, 0), every(20, 0), every(20, 3))
 	f.Tells = []api.Tell{{Clock: every(20, 3), Arg: api.Arg{Src: 5}, Deadline: 2}}
 	planOf(t, "just now, told", f, 5, 20,
 		slot(0, 0, 0), slot(2, 0, 3), slot(1, 0, 5), slot(0, 1, 10), slot(0, 2, 20), slot(2, 1, 23))
 	// What runs isn't broken off.
-	f = row([]int64{4, 2}, every(20, 0), every(20, 3))
+	f = sample.Row([]int64{4, 2}, every(20, 0), every(20, 3))
 	f.Tells = []api.Tell{{Clock: every(20, 3), Arg: api.Arg{Src: 3}, Deadline: 3}}
 	planOf(t, "not broken off", f, 6, 20, slot(0, 0, 0), slot(1, 0, 4), slot(0, 1, 20), slot(1, 1, 24))
 }
@@ -149,7 +140,7 @@ func TestEqualDeadlines(t *testing.T) {
 	// Task 0 hangs on task 2, so that it stands behind task 1.
 	planIs(t, "flow a = m(c); flow b = n(x); flow c = n(x);", 0, 10, slot(2, 0, 0), slot(1, 0, 2), slot(0, 0, 4))
 	// Task 0 is released later than task 1, and both end at 10, at 30, and so on.
-	f := row([]int64{2, 2, 6}, every(20, 5), every(10, 0), every(10, 0))
+	f := sample.Row([]int64{2, 2, 6}, every(20, 5), every(10, 0), every(10, 0))
 	f.Tells = []api.Tell{{Clock: every(20, 5), Arg: api.Arg{Src: 3}, Deadline: 5}, {Clock: every(10, 0), Arg: api.Arg{Src: 5}, Deadline: 6}}
 	planOf(t, "by releases", f, 10, 20,
 		slot(2, 0, 0), slot(1, 0, 6), slot(0, 0, 8), slot(2, 1, 10), slot(1, 1, 16), slot(2, 2, 20), slot(1, 2, 26), slot(0, 1, 28))
@@ -207,25 +198,25 @@ func TestMisses(t *testing.T) {
 
 // P12.1: misses by periods.
 func TestMissesOfPeriods(t *testing.T) {
-	refusedOf(t, "two of 3 each 5", row([]int64{3, 3}, every(5, 0), every(5, 0)), api.ErrMiss)
-	planOf(t, "3 and 2 each 5", row([]int64{3, 2}, every(5, 0), every(5, 0)), 0, 5, slot(0, 0, 0), slot(1, 0, 3))
-	planOf(t, "5 each 5", row([]int64{5}, every(5, 0)), 0, 5, slot(0, 0, 0))
-	refusedOf(t, "6 each 5", row([]int64{6}, every(5, 0)), api.ErrMiss)
-	refusedOf(t, "6 each 5, from 2000 on", row([]int64{6}, every(5, 2000)), api.ErrMiss)
+	refusedOf(t, "two of 3 each 5", sample.Row([]int64{3, 3}, every(5, 0), every(5, 0)), api.ErrMiss)
+	planOf(t, "3 and 2 each 5", sample.Row([]int64{3, 2}, every(5, 0), every(5, 0)), 0, 5, slot(0, 0, 0), slot(1, 0, 3))
+	planOf(t, "5 each 5", sample.Row([]int64{5}, every(5, 0)), 0, 5, slot(0, 0, 0))
+	refusedOf(t, "6 each 5", sample.Row([]int64{6}, every(5, 0)), api.ErrMiss)
+	refusedOf(t, "6 each 5, from 2000 on", sample.Row([]int64{6}, every(5, 2000)), api.ErrMiss)
 	// Not the first jobs alone.
-	planOf(t, "second job", row([]int64{5, 10}, every(10, 0), every(30, 0)), 0, 30, slot(0, 0, 0), slot(1, 0, 5), slot(0, 1, 15), slot(0, 2, 20))
-	refusedOf(t, "second job", row([]int64{5, 11}, every(10, 0), every(30, 0)), api.ErrMiss)
-	refusedOf(t, "ninth job", row([]int64{5, 6}, every(10, 0), every(10, 70)), api.ErrMiss)
+	planOf(t, "second job", sample.Row([]int64{5, 10}, every(10, 0), every(30, 0)), 0, 30, slot(0, 0, 0), slot(1, 0, 5), slot(0, 1, 15), slot(0, 2, 20))
+	refusedOf(t, "second job", sample.Row([]int64{5, 11}, every(10, 0), every(30, 0)), api.ErrMiss)
+	refusedOf(t, "ninth job", sample.Row([]int64{5, 6}, every(10, 0), every(10, 70)), api.ErrMiss)
 }
 
 // P12.1: what would be in time, if something waited, misses; also if that is ahead of S alone.
 func TestNothingWaits(t *testing.T) {
 	tells := []api.Tell{{Clock: every(20, 1), Arg: api.Arg{Src: 4}, Deadline: 3}, {Clock: every(20, 40), Arg: api.Arg{Src: 5}, Deadline: 1}}
-	f := row([]int64{8, 2, 1}, every(20, 0), every(20, 1), every(20, 40))
+	f := sample.Row([]int64{8, 2, 1}, every(20, 0), every(20, 1), every(20, 40))
 	f.Tells = tells
 	refusedOf(t, "from 40 on", f, api.ErrMiss)
 	// Task 2 runs at 0, and task 1 is there when it ends.
-	f = row([]int64{8, 2, 1}, every(20, 0), every(20, 1), every(20, 0))
+	f = sample.Row([]int64{8, 2, 1}, every(20, 0), every(20, 1), every(20, 0))
 	tells[1].Clock.Phase = 0
 	f.Tells = tells
 	planOf(t, "from 0 on", f, 4, 20, slot(2, 0, 0), slot(1, 0, 1), slot(0, 0, 3), slot(2, 1, 20), slot(1, 1, 21), slot(0, 1, 23))
@@ -236,12 +227,12 @@ func TestNothingWaits(t *testing.T) {
 // P12.1: all end in time, but what starts from S on doesn't come again H later.
 func TestWhatDoesNotRepeat(t *testing.T) {
 	// Task 0 is the only one at 0; behind that, task 1 runs ahead of it, so that its job of 2 runs at 2, and that of 6 at 7.
-	refusedOf(t, "from 2 on", row([]int64{2, 1}, every(4, 0), every(2, 2)), api.ErrMiss)
-	planOf(t, "from 0 on", row([]int64{2, 1}, every(4, 0), every(2, 0)), 0, 4, slot(1, 0, 0), slot(0, 0, 1), slot(1, 1, 3))
-	planOf(t, "from 4 on", row([]int64{2, 1}, every(4, 0), every(2, 4)), 4, 4, slot(0, 0, 0), slot(1, 0, 4), slot(0, 1, 5), slot(1, 1, 7))
+	refusedOf(t, "from 2 on", sample.Row([]int64{2, 1}, every(4, 0), every(2, 2)), api.ErrMiss)
+	planOf(t, "from 0 on", sample.Row([]int64{2, 1}, every(4, 0), every(2, 0)), 0, 4, slot(1, 0, 0), slot(0, 0, 1), slot(1, 1, 3))
+	planOf(t, "from 4 on", sample.Row([]int64{2, 1}, every(4, 0), every(2, 4)), 4, 4, slot(0, 0, 0), slot(1, 0, 4), slot(0, 1, 5), slot(1, 1, 7))
 	// It is late by one more each time.
-	refusedOf(t, "later and later", row([]int64{11, 10}, every(20, 0), every(20, 10)), api.ErrMiss)
-	planOf(t, "not later", row([]int64{10, 10}, every(20, 0), every(20, 10)), 10, 20, slot(0, 0, 0), slot(1, 0, 10), slot(0, 1, 20))
+	refusedOf(t, "later and later", sample.Row([]int64{11, 10}, every(20, 0), every(20, 10)), api.ErrMiss)
+	planOf(t, "not later", sample.Row([]int64{10, 10}, every(20, 0), every(20, 10)), 10, 20, slot(0, 0, 0), slot(1, 0, 10), slot(0, 1, 20))
 }
 
 // P12.1: layer 11's errors.
@@ -269,7 +260,7 @@ func TestErrors(t *testing.T) {
 
 // P12.1: a plan's jobs up to S and three times H are at most MaxSlots.
 func TestManyJobs(t *testing.T) {
-	f := row([]int64{1}, every(1, 0))
+	f := sample.Row([]int64{1}, every(1, 0))
 	f.Inputs = append(f.Inputs, every(1333, 0))
 	f.Tells = []api.Tell{{Clock: every(1333, 0), Arg: api.Arg{Src: 1}, Deadline: 1}}
 	p, err := sched.Make(f)
@@ -293,7 +284,7 @@ func TestNamesTheFirstError(t *testing.T) {
 	f.Tasks[0].Node = -1
 	refusedOf(t, "not right", f, api.ErrArg)
 	// There is no order, and there are too many jobs.
-	f = row([]int64{2, 2}, every(1, 0), every(2000, 0))
+	f = sample.Row([]int64{2, 2}, every(1, 0), every(2000, 0))
 	f.Tasks[0].Args[0].Src = 2
 	refusedOf(t, "no order", f, api.ErrCycle)
 	// There are too many jobs, each of which is too slow.
@@ -351,13 +342,13 @@ func TestExpandFromS(t *testing.T) {
 	expandedIs(t, f, p, 39, p.Slots[:4]...)
 	expandedIs(t, f, p, 43, p.Slots[:5]...)
 	// S isn't where a hyperperiod ends, and slots end behind S and H.
-	f = row([]int64{10, 10}, every(20, 0), every(20, 10))
+	f = sample.Row([]int64{10, 10}, every(20, 0), every(20, 10))
 	expandedIs(t, f, plan(t, f), 61, slot(0, 0, 0), slot(1, 0, 10), slot(0, 1, 20), slot(1, 1, 30), slot(0, 2, 40), slot(1, 2, 50), slot(0, 3, 60))
 }
 
 // P12.1: until to 20000.
 func TestExpandToTheLast(t *testing.T) {
-	f := row([]int64{1}, every(1, 7))
+	f := sample.Row([]int64{1}, every(1, 7))
 	p := plan(t, f)
 	l := sched.Expand(f, p, last)
 	if len(l) != last-7 {
@@ -368,7 +359,7 @@ func TestExpandToTheLast(t *testing.T) {
 			t.Fatal(i, s)
 		}
 	}
-	f = row([]int64{1}, every(2000, 1999))
+	f = sample.Row([]int64{1}, every(2000, 1999))
 	if l := sched.Expand(f, plan(t, f), last); len(l) != 10 || l[9] != slot(0, 9, 19999) {
 		t.Error(l)
 	}
