@@ -1,4 +1,4 @@
-// Package sample makes texts of programs, and flat programs, picked at random by what it is handed, for the layers' tests.
+// Package sample makes texts of programs, flat programs, and plans that differ from one, picked at random by what it is handed, for the layers' tests.
 package sample
 
 import (

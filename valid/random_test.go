@@ -2,7 +2,6 @@ package valid_test
 
 import (
 	"math/rand"
-	"slices"
 	"testing"
 
 	"horarium/api"
@@ -127,53 +126,6 @@ func meant(f api.Flat, p sched.Plan) answer {
 	return answer{0, -1}
 }
 
-// changed is the plan with something changed, so that most are ill, and some are well.
-func changed(r *rand.Rand, f api.Flat, p sched.Plan) sched.Plan {
-	l := slices.Clone(p.Slots)
-	i := r.Intn(len(l))
-	switch r.Intn(12) {
-	case 0, 1, 2:
-		l[i].Start += int64(1 + r.Intn(3))
-	case 3, 4:
-		l[i].Start -= int64(1 + r.Intn(3))
-	case 5, 6:
-		other := &l[(i+1)%len(l)]
-		l[i].Task, l[i].Job, other.Task, other.Job = other.Task, other.Job, l[i].Task, l[i].Job
-	case 7:
-		l[i].Job += r.Intn(9) - 4
-	case 8:
-		l[i].Task = r.Intn(len(f.Tasks)+2) - 1
-	case 9:
-		l = slices.Delete(l, i, i+1)
-	case 10:
-		start := r.Int63n(p.S + p.H)
-		at, there := slices.BinarySearchFunc(l, start, func(s api.Slot, start int64) int { return int(s.Start - start) })
-		if !there {
-			l = slices.Insert(l, at, slot(r.Intn(len(f.Tasks)), r.Intn(8), start))
-		}
-	case 11:
-		p.S += int64(r.Intn(2))
-		p.H += int64(r.Intn(2))
-	}
-	p.Slots = l
-	return p
-}
-
-// spread is the plan with each slot put off as far as it may be, by itself, or less.
-func spread(r *rand.Rand, f api.Flat, p sched.Plan) sched.Plan {
-	p.Slots = slices.Clone(p.Slots)
-	for i := range slices.Backward(p.Slots) {
-		for range r.Intn(4) {
-			p.Slots[i].Start++
-			if !valid.Well(f, p) {
-				p.Slots[i].Start--
-				break
-			}
-		}
-	}
-	return p
-}
-
 // asMeant asks what is wrong with the plan, and counts the answer.
 func asMeant(t *testing.T, f api.Flat, p sched.Plan, many map[int]int) {
 	t.Helper()
@@ -196,14 +148,14 @@ func askAll(t *testing.T, r *rand.Rand, f api.Flat, many map[int]int) {
 	if want := meant(f, p); want.kind != 0 || !valid.Well(f, p) {
 		t.Fatalf("%v\n%v: %v", f, p, want)
 	}
-	p = spread(r, f, p)
+	p = sample.Spread(r.Intn, f, p)
 	asMeant(t, f, p, many)
 	for range 4 {
 		if len(p.Slots) == 0 {
 			return
 		}
-		asMeant(t, f, changed(r, f, p), many)
-		p = changed(r, f, p)
+		asMeant(t, f, sample.Changed(r.Intn, f, p), many)
+		p = sample.Changed(r.Intn, f, p)
 		asMeant(t, f, p, many)
 	}
 }
