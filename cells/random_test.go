@@ -247,28 +247,10 @@ func askAll(t *testing.T, r *rand.Rand, f api.Flat, many *tally) {
 			usesRefused(t, f, q, 0)
 		}
 	}
-	if q := oddly(r, f, p); len(q.Slots) > len(p.Slots) {
+	if q := sample.Besides(r.Intn, f, p); len(q.Slots) > len(p.Slots) {
 		many.odd++
 		asMeant(t, r, f, q, many)
 	}
-}
-
-// oddly is the plan, which is well, and stays so, with some slots more, of jobs that come behind all that is asked of a plan.
-func oddly(r *rand.Rand, f api.Flat, p sched.Plan) sched.Plan {
-	for range 20 {
-		if len(f.Tasks) == 0 {
-			break
-		}
-		q := p
-		task := r.Intn(len(f.Tasks))
-		later := int(p.S+2*p.H+r.Int63n(100)) / int(f.Tasks[task].Clock.Period)
-		q.Slots = append(slices.Clone(p.Slots), slot(task, later, r.Int63n(p.S+p.H)))
-		slices.SortFunc(q.Slots, func(a, b api.Slot) int { return int(a.Start - b.Start) })
-		if valid.Well(f, q) {
-			p = q
-		}
-	}
-	return p
 }
 
 func enough(t *testing.T, many tally, well, several, odd int) {

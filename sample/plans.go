@@ -59,3 +59,20 @@ func Spread(pick func(n int) int, f api.Flat, p sched.Plan) sched.Plan {
 	}
 	return p
 }
+
+// Besides is the plan, which is well, and stays so, with some slots more, of jobs that come behind all that is asked of a plan.
+func Besides(pick func(n int) int, f api.Flat, p sched.Plan) sched.Plan {
+	for range 20 {
+		if len(f.Tasks) == 0 {
+			break
+		}
+		task := pick(len(f.Tasks))
+		later := (int(p.S+2*p.H) + pick(100)) / int(f.Tasks[task].Clock.Period)
+		q := p
+		q.Slots = put(slices.Clone(p.Slots), api.Slot{Task: task, Job: later, Start: int64(pick(int(p.S + p.H)))})
+		if valid.Well(f, q) {
+			p = q
+		}
+	}
+	return p
+}
